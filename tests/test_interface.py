@@ -1,0 +1,35 @@
+"""The interface: what stands under which module, and how its arguments are named."""
+
+import importlib
+import inspect
+import unittest
+
+INTERFACE = {
+    "schemas": {"is_name": "(thing)", "Schema": "(kinds, *, choices=None, root)"},
+    "schematexts": {"show_schema": "(schema)", "read_schema": "(text)"},
+    "things": {
+        "Node": "(kind, fields=())", "Case": "(word, content=None)", "told": "(schema, thing)",
+        "same": "(schema, one, other)", "copied": "(schema, thing)", "plain": "(schema, of)",
+    },
+}
+METHODS = {("schemas", "Schema"): {"check": "(self, thing)"}, ("things", "Node"): {"put": "(self, name, thing)"}}
+
+
+class TestInterface(unittest.TestCase):
+    def test_names_and_arguments(self):
+        for module, rows in INTERFACE.items():
+            found = importlib.import_module(f"thingwires.{module}")
+            for name, arguments in rows.items():
+                thing = getattr(found, name)
+                self.assertEqual(str(inspect.signature(thing)), arguments, name)
+                self.assertEqual(thing.__module__, f"thingwires.{module}")
+
+    def test_methods_stand_in_the_class_itself(self):
+        for (module, name), rows in METHODS.items():
+            found = getattr(importlib.import_module(f"thingwires.{module}"), name)
+            for method, arguments in rows.items():
+                self.assertEqual(str(inspect.signature(vars(found)[method])), arguments)
+
+
+if __name__ == "__main__":
+    unittest.main()

@@ -1,0 +1,1 @@
+"""Thingwires: written things, whole."""

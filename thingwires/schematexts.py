@@ -1,0 +1,167 @@
+"""Schemas as texts."""
+
+from thingwires.errors import NoSchema, NoText
+from thingwires.quotes import quoted, unquoted
+from thingwires.schemas import Schema
+
+
+def show_schema(schema):
+    """Show a schema as a text."""
+    rows = []
+    for name in sorted(schema.kinds):
+        rows.append(f"kind {name}")
+        rows.extend([_show_field(field) for field in schema.kinds[name]])
+    for name in sorted(schema.choices):
+        rows.append(f"choice {name}")
+        rows.extend([_show_case(case) for case in schema.choices[name]])
+    rows.append(f"root {_show_sort(schema.root)}")
+    return "\n".join(rows)
+
+
+def read_schema(text):
+    """Read the schema of which a text is what is shown.
+
+    The rows are read without much care; that nothing but the one text of a schema gets by is
+    seen to by showing what was read.
+    """
+    schema = _read_rows(text.split("\n")) if isinstance(text, str) else None
+    if schema is None or show_schema(schema) != text:
+        raise NoText(text)
+    return schema
+
+
+def _show_field(field):
+    number, name, of = field[:3]
+    shown = f"{number} {name} {_show_sort(of)}"
+    if len(field) == 3:
+        return shown
+    return f"{shown} = {_show_default(of, field[3])}"
+
+
+def _show_case(case):
+    number, name, of = case
+    if of is None:
+        return f"{number} {name}"
+    return f"{number} {name} {_show_sort(of)}"
+
+
+def _show_sort(of):
+    """Show a type, from the outside in."""
+    words = []
+    while of[0] in ("row", "maybe"):
+        words.append(f"row {of[1]}" if of[0] == "row" else "maybe")
+        of = of[-1]
+    words.append(_show_inmost(of))
+    return " ".join(words)
+
+
+def _show_inmost(of):
+    if of[0] == "number":
+        return f"number {_show_bound(of[1])}..{_show_bound(of[2])}"
+    if of[0] == "truth":
+        return "truth"
+    return f"{of[0]} {of[1]}"
+
+
+def _show_bound(bound):
+    return "*" if bound is None else str(bound)
+
+
+def _show_default(of, default):
+    word = of[0]
+    if word == "number":
+        return str(default)
+    if word == "truth":
+        return "yes" if default else "no"
+    if word == "text":
+        return quoted(default)
+    return "[]" if word == "row" else "-"
+
+
+def _read_rows(rows):
+    """Read a schema from the rows of its text; None where there is none."""
+    tables = {"kind": {}, "choice": {}}
+    word = ""
+    entries = []
+    for row in rows[:-1]:
+        words = row.split(" ")
+        if words[0] in ("kind", "choice") and len(words) == 2:
+            word = words[0]
+            entries = []
+            tables[word][words[1]] = entries
+        else:
+            entries.append(_read_case(words) if word == "choice" else _read_field(row))
+    words = rows[-1].split(" ")
+    try:
+        return Schema(tables["kind"], choices=tables["choice"], root=_read_sort(words[1:]))
+    except NoSchema:
+        return None
+
+
+def _read_field(row):
+    """Read a field from its row; types and names have no `=` in them."""
+    head, mark, default = row.partition(" = ")
+    words = head.split(" ")
+    of = _read_sort(words[2:])
+    field = (_read_number(words[0]), "".join(words[1:2]), of)
+    if mark == "" or of is None:
+        return field
+    return (*field, _read_default(of, default))
+
+
+def _read_case(words):
+    return _read_number(words[0]), "".join(words[1:2]), _read_sort(words[2:])
+
+
+def _read_sort(words):
+    """Read a type from its words; None where they begin with no word of a type."""
+    around = []
+    at = 0
+    while at < len(words) and words[at] in ("row", "maybe"):
+        if words[at] == "row":
+            around.append(("row", _read_number("".join(words[at + 1:at + 2]))))
+            at += 2
+        else:
+            around.append(("maybe",))
+            at += 1
+    of = _read_inmost(words[at:])
+    for head in around[::-1]:
+        of = (*head, of)
+    return of
+
+
+def _read_inmost(words):
+    if words == ["truth"]:
+        return ("truth",)
+    if len(words) != 2:
+        return None
+    word, rest = words
+    if word == "number":
+        low, _, high = rest.partition("..")
+        return "number", _read_number(low), _read_number(high)
+    if word == "text":
+        return "text", _read_number(rest)
+    return word, rest
+
+
+def _read_number(word):
+    """Read a number from its figures; None where they are none, or more than Python takes."""
+    figures = word[1:] if word.startswith("-") else word
+    if not figures.isascii() or not figures.isdigit():
+        return None
+    try:
+        number = int(word)
+    except ValueError:
+        return None
+    return number
+
+
+def _read_default(of, word):
+    """Read a default of a type; what is none is read as one that is refused, or shown otherwise."""
+    if of[0] == "number":
+        return _read_number(word)
+    if of[0] == "truth":
+        return {"yes": True, "no": False}.get(word)
+    if of[0] == "text":
+        return unquoted(word)
+    return () if of[0] == "row" else None
