@@ -132,6 +132,8 @@ class TestSimple(CheckCase):
     def test_fields(self):
         self.wrong((), "fields", Node("k"))
         self.wrong((), "fields", node(more=1))
+        self.wrong((), "fields", Node("k", {**fields(), 5: 1}))
+        self.wrong((), "fields", Node("k", {**fields(), None: 1}))
         for name in fields():
             rest = {other: thing for other, thing in fields().items() if other != name}
             self.wrong((), "fields", Node("k", rest))

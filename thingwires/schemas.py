@@ -77,7 +77,8 @@ def _fault(word, entry, earlier, kinds, choices):
         return "number"
     if word == "choice" and of is None:
         return None
-    if (word == "choice" and number == 0) or not _is_sort(of, kinds, choices):
+    # Only a case may have the number 0, and then no content.
+    if number == 0 or not _is_sort(of, kinds, choices):
         return "sort"
     if len(entry) == 4 and not _is_default(of, entry[3]):
         return "default"

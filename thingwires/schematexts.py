@@ -81,16 +81,14 @@ def _show_default(of, default):
 def _read_rows(rows):
     """Read a schema from the rows of its text; None where there is none."""
     tables = {"kind": {}, "choice": {}}
-    word = ""
     entries = []
     for row in rows[:-1]:
         words = row.split(" ")
-        if words[0] in ("kind", "choice") and len(words) == 2:
-            word = words[0]
+        if words[0] in tables and len(words) == 2:
             entries = []
-            tables[word][words[1]] = entries
+            tables[words[0]][words[1]] = entries
         else:
-            entries.append(_read_case(words) if word == "choice" else _read_field(row))
+            entries.append(_read_entry(row))
     words = rows[-1].split(" ")
     try:
         return Schema(tables["kind"], choices=tables["choice"], root=_read_sort(words[1:]))
@@ -98,19 +96,15 @@ def _read_rows(rows):
         return None
 
 
-def _read_field(row):
-    """Read a field from its row; types and names have no `=` in them."""
+def _read_entry(row):
+    """Read a field or a case from its row; names and types have no `=` in them."""
     head, mark, default = row.partition(" = ")
     words = head.split(" ")
     of = _read_sort(words[2:])
-    field = (_read_number(words[0]), "".join(words[1:2]), of)
+    entry = (_read_number(words[0]), "".join(words[1:2]), of)
     if mark == "" or of is None:
-        return field
-    return (*field, _read_default(of, default))
-
-
-def _read_case(words):
-    return _read_number(words[0]), "".join(words[1:2]), _read_sort(words[2:])
+        return entry
+    return (*entry, _read_default(of, default))
 
 
 def _read_sort(words):
@@ -145,10 +139,7 @@ def _read_inmost(words):
 
 
 def _read_number(word):
-    """Read a number from its figures; None where they are none, or more than Python takes."""
-    figures = word[1:] if word.startswith("-") else word
-    if not figures.isascii() or not figures.isdigit():
-        return None
+    """Read a number; None where a word is none, or has more figures than Python takes."""
     try:
         number = int(word)
     except ValueError:
