@@ -11,8 +11,16 @@ INTERFACE = {
         "Node": "(kind, fields=())", "Case": "(word, content=None)", "told": "(schema, thing)",
         "same": "(schema, one, other)", "copied": "(schema, thing)", "plain": "(schema, of)",
     },
+    "turning": {"turned": "(old, new, thing)"},
+    "meeting": {"meets": "(old, new)", "keeps": "(old, new)"},
+    "streams": {"streamed": "(parts)", "unstreamed": "(data)", "Feeder": "()"},
+    "questions": {"asked": "(schema, thing, question)"},
 }
-METHODS = {("schemas", "Schema"): {"check": "(self, thing)"}, ("things", "Node"): {"put": "(self, name, thing)"}}
+METHODS = {
+    ("schemas", "Schema"): {"check": "(self, thing)"},
+    ("things", "Node"): {"put": "(self, name, thing)"},
+    ("streams", "Feeder"): {"feed": "(self, data)", "done": "(self)"},
+}
 
 
 class TestInterface(unittest.TestCase):

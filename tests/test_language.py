@@ -72,6 +72,7 @@ class TestLanguage(unittest.TestCase):
             self.assertEqual(node.level, 0, place)
             source = self.trees[node.module.partition(".")[2] + ".py"]
             defined = {part.name for part in source.body if isinstance(part, (ast.FunctionDef, ast.ClassDef))}
+            defined.update(part.targets[0].id for part in source.body if isinstance(part, ast.Assign))
             for alias in node.names:
                 self.assertIn(alias.name, defined, place)
                 self.assertIsNone(alias.asname, place)
@@ -142,6 +143,28 @@ class TestLanguage(unittest.TestCase):
             self.assertNotIn(word, BARRED, place)
             if word.startswith("__"):
                 self.assertIn(word, DUNDERS, place)
+
+    def test_class_names_begin_with_a_letter(self):
+        for place, node in self.nodes(ast.ClassDef):
+            self.assertTrue(node.name[0].isalpha(), place)
+
+    def test_no_name_is_a_method_and_an_attribute(self):
+        methods, attributes = set(), set()
+        for _, node in self.nodes(ast.ClassDef):
+            methods.update(part.name for part in node.body if isinstance(part, ast.FunctionDef))
+        for _, node in self.nodes(ast.Attribute):
+            if isinstance(node.ctx, ast.Store):
+                attributes.add(node.attr)
+        self.assertEqual(methods & attributes, set())
+        for place, node in self.nodes(ast.Attribute):
+            self.assertIn(node.attr, methods | attributes | METHODS, place)
+
+    def test_views_and_the_like_are_iterated_at_once(self):
+        for place, node in self.nodes(ast.Assign, ast.Return):
+            call = node.value
+            if isinstance(call, ast.Call):
+                name = call.func.id if isinstance(call.func, ast.Name) else call.func.attr
+                self.assertNotIn(name, ("zip", "enumerate", "reversed", "range", "items", "keys", "values"), place)
 
     def test_methods_are_known_or_own(self):
         own = {node.name for _, node in self.nodes(ast.FunctionDef)}

@@ -1,9 +1,10 @@
-"""What a whole number, a text and a row are."""
+"""What a whole number, a text, a row and bytes are."""
 
-FIRST_LONGER_NUMBER = 10 ** 60
+GREATEST_NUMBER = 10 ** 60 - 1
 FIRST_SIGN = 32
 LAST_SIGN = 126
 PERCENT_SIGN = 37
+LAST_BYTE = 255
 
 
 def is_whole(thing):
@@ -27,6 +28,11 @@ def is_row(thing):
     return isinstance(thing, (list, tuple))
 
 
+def is_bytes(thing):
+    """Whether an object is a row of whole numbers from 0 to 255."""
+    return is_row(thing) and all([is_whole(part) and 0 <= part <= LAST_BYTE for part in thing])
+
+
 def keeps_bounds(number, low, high):
     """Whether a whole number is neither below the low bound nor above the high one."""
     if low is not None and number < low:
@@ -36,4 +42,13 @@ def keeps_bounds(number, low, high):
 
 def keeps_figures(number):
     """Whether a whole number has at most sixty figures."""
-    return abs(number) < FIRST_LONGER_NUMBER
+    return abs(number) <= GREATEST_NUMBER
+
+
+def nearest(low, high):
+    """The number of least distance from 0 within bounds."""
+    if low is not None and low > 0:
+        return low
+    if high is not None and high < 0:
+        return high
+    return 0

@@ -1,6 +1,7 @@
 """Whether an object is a thing of a schema's root, gone through place by place."""
 
 from thingwires.basics import is_text, is_whole, keeps_bounds, keeps_figures
+from thingwires.entries import by_name
 from thingwires.errors import NoThing
 from thingwires.things import Case, Node
 
@@ -45,18 +46,11 @@ def _is_sort(schema, of, thing):
     if word == "row":
         return isinstance(thing, tuple)
     if word == "choice":
-        return isinstance(thing, Case) and len(_cases(schema, of[1], thing.word)) > 0
+        return isinstance(thing, Case) and by_name(schema.choices[of[1]], thing.word) is not None
     if word == "node":
         return isinstance(thing, Node) and isinstance(thing.kind, str) and thing.kind == of[1]
     # Whatever a maybe is, but None, is looked at as what is inside.
     return True
-
-
-def _cases(schema, choice, word):
-    """List the case of a choice that has a word as its name, if there is one."""
-    if not isinstance(word, str):
-        return []
-    return [case for case in schema.choices[choice] if case[1] == word]
 
 
 def _refuse_size(schema, of, thing, path):
@@ -86,7 +80,7 @@ def _parts(schema, of, thing, path):
     if word == "maybe" and thing is not None:
         return [(of[1], thing, (*path, ("inside",)))]
     if word == "choice":
-        inner = _cases(schema, of[1], thing.word)[0][2]
+        inner = by_name(schema.choices[of[1]], thing.word)[2]
         if inner is not None or thing.content is not None:
             return [(inner, thing.content, (*path, ("case", thing.word)))]
     if word == "node":

@@ -4,6 +4,8 @@ Things may be hundreds of steps deep and go round in rings, so they are gone thr
 a list of what is ahead, not by functions that call themselves.
 """
 
+from thingwires.basics import nearest
+
 
 class Node:
     """A thing of a kind; it is equal to itself alone."""
@@ -57,7 +59,24 @@ def copied(schema, thing):
 
 def plain(schema, of):
     """Make the plain thing of a type, with one node of each kind."""
-    return _plain_among(schema, of, {})
+    return plain_among(schema, of, {})
+
+
+def plain_among(schema, of, nodes):
+    """Make the plain thing of a type; nodes are those made already, by their kinds."""
+    word = of[0]
+    if word == "number":
+        return nearest(of[1], of[2])
+    if word == "choice":
+        _, name, inner = schema.choices[of[1]][0]
+        return Case(name, None if inner is None else plain_among(schema, inner, nodes))
+    if word == "node":
+        return _plain_node(schema, of[1], nodes)
+    if word == "truth":
+        return False
+    if word == "text":
+        return ""
+    return () if word == "row" else None
 
 
 def field_names(schema, kind):
@@ -141,37 +160,11 @@ def _alike(one, other):
     return True
 
 
-def _plain_among(schema, of, nodes):
-    """Make the plain thing of a type; nodes are those made already, by their kinds."""
-    word = of[0]
-    if word == "number":
-        return _nearest(of[1], of[2])
-    if word == "choice":
-        _, name, inner = schema.choices[of[1]][0]
-        return Case(name, None if inner is None else _plain_among(schema, inner, nodes))
-    if word == "node":
-        return _plain_node(schema, of[1], nodes)
-    if word == "truth":
-        return False
-    if word == "text":
-        return ""
-    return () if word == "row" else None
-
-
 def _plain_node(schema, kind, nodes):
     """The one plain node of a kind, kept ahead of its fields since these may lead back to it."""
     if kind not in nodes:
         node = Node(kind)
         nodes[kind] = node
         for field in schema.kinds[kind]:
-            node.put(field[1], _plain_among(schema, field[2], nodes))
+            node.put(field[1], plain_among(schema, field[2], nodes))
     return nodes[kind]
-
-
-def _nearest(low, high):
-    """The number of least distance from 0 within bounds."""
-    if low is not None and low > 0:
-        return low
-    if high is not None and high < 0:
-        return high
-    return 0
