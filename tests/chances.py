@@ -164,3 +164,23 @@ class Things:
 
 def chance_thing(chance, schema, nodes=3):
     return Things(chance, schema, nodes).root()
+
+
+def chance_question(chance, schema, most=8):
+    """A question that goes with a schema's types."""
+    of, steps = schema.root, []
+    while len(steps) < most and chance.random() < 0.9:
+        if of[0] == "row":
+            step, of = ("item", chance.choice([0, 0, 0, 1, 2, 5])), of[2]
+        elif of[0] == "maybe":
+            step, of = ("inside",), of[1]
+        elif of[0] in ("node", "choice"):
+            row = schema.kinds[of[1]] if of[0] == "node" else [case for case in schema.choices[of[1]] if case[2] is not None]
+            if not row:
+                break
+            entry = chance.choice(row)
+            step, of = ("field" if of[0] == "node" else "case", entry[1]), entry[2]
+        else:
+            break
+        steps.append(step)
+    return steps

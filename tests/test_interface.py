@@ -15,11 +15,21 @@ INTERFACE = {
     "meeting": {"meets": "(old, new)", "keeps": "(old, new)"},
     "streams": {"streamed": "(parts)", "unstreamed": "(data)", "Feeder": "()"},
     "questions": {"asked": "(schema, thing, question)"},
+    "library": {"Library": "(editions)"},
+    "readers": {"made": "(old, new)", "run_reader": "(steps, data)"},
+    "judging": {"judge_meets": "(old, new, paper)", "judge_reader": "(old, new, steps)"},
+    "desk": {"Desk": "(editions)"},
 }
 METHODS = {
     ("schemas", "Schema"): {"check": "(self, thing)"},
     ("things", "Node"): {"put": "(self, name, thing)"},
     ("streams", "Feeder"): {"feed": "(self, data)", "done": "(self)"},
+    ("library", "Library"): {
+        "grow": "(self, schema, *, must=())", "write": "(self, thing, *, edition, wire='tagged')", "read": "(self, data, *, edition)",
+        "mark": "(self, data)", "shelf": "(self, data, *, edition)", "ask": "(self, data, question, *, edition)",
+        "meets": "(self, old, new)", "keeps": "(self, old, new)", "reader": "(self, old, new)",
+    },
+    ("desk", "Desk"): {"say": "(self, text)", "store": "(self, name, texts)", "run": "(self, texts)", "journal": "(self)"},
 }
 
 

@@ -14,7 +14,7 @@ STATEMENTS = (
 BUILTINS = {
     "len", "range", "enumerate", "zip", "min", "max", "sum", "abs", "sorted", "reversed", "int", "str", "bool", "list",
     "tuple", "dict", "set", "isinstance", "ord", "repr", "any", "all", "divmod", "ValueError", "KeyError",
-    "ZeroDivisionError",
+    "ZeroDivisionError", "NotImplementedError",
 }
 METHODS = {
     "append", "clear", "copy", "count", "endswith", "extend", "find", "get", "index", "insert", "isalnum", "isalpha",
@@ -188,6 +188,17 @@ class TestLanguage(unittest.TestCase):
                     self.assertNotIn(node.arg, taken, name)
                 if isinstance(node, ast.Name) and isinstance(node.ctx, ast.Store):
                     self.assertNotIn(node.id, taken, name)
+
+    def test_attributes_are_assigned_through_a_local_name(self):
+        for place, node in self.nodes(ast.Attribute):
+            if isinstance(node.ctx, ast.Store):
+                self.assertIsInstance(node.value, ast.Name, place)
+
+    def test_a_finally_is_simple(self):
+        for place, node in self.nodes(ast.Try):
+            for row in node.finalbody:
+                self.assertIsInstance(row, (ast.AugAssign, ast.Expr), place)
+                self.assertFalse([part for part in ast.walk(row) if isinstance(part, (ast.Subscript, ast.JoinedStr, ast.Starred))], place)
 
     def test_underscore_is_never_read(self):
         for place, node in self.nodes(ast.Name):

@@ -1,5 +1,6 @@
-"""What a whole number, a text, a row and bytes are."""
+"""What a whole number, a text, a row and bytes are, and when two such are alike."""
 
+FIGURES = "0123456789"
 GREATEST_NUMBER = 10 ** 60 - 1
 FIRST_SIGN = 32
 LAST_SIGN = 126
@@ -12,15 +13,14 @@ def is_whole(thing):
     return isinstance(thing, int) and not isinstance(thing, bool)
 
 
-def is_sign(sign):
-    """Whether a text of one character is a sign."""
-    code = ord(sign)
+def is_code(code):
+    """Whether a number is the code of a sign."""
     return FIRST_SIGN <= code <= LAST_SIGN and code != PERCENT_SIGN
 
 
 def is_text(thing):
     """Whether an object is a text made of signs."""
-    return isinstance(thing, str) and all([is_sign(sign) for sign in thing])
+    return isinstance(thing, str) and all([is_code(ord(sign)) for sign in thing])
 
 
 def is_row(thing):
@@ -52,3 +52,31 @@ def nearest(low, high):
     if high is not None and high < 0:
         return high
     return 0
+
+
+def alike(one, other):
+    """Whether another object, which may be any, is like one of tuples, numbers, truths, texts and None.
+
+    Python holds a truth and a number equal, and some objects equal to all; here none of them is.
+    """
+    ahead = [(one, other)]
+    while ahead:
+        left, right = ahead.pop()
+        if not isinstance(left, tuple):
+            if not _are_equal(left, right):
+                return False
+        elif isinstance(right, tuple) and len(left) == len(right):
+            ahead.extend(list(zip(left, right)))
+        else:
+            return False
+    return True
+
+
+def _are_equal(one, other):
+    if one is None:
+        return other is None
+    if isinstance(one, bool):
+        return isinstance(other, bool) and one == other
+    if isinstance(one, str):
+        return isinstance(other, str) and one == other
+    return is_whole(other) and one == other

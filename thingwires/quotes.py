@@ -1,4 +1,13 @@
-"""How a text is written between two quotes."""
+"""How a text is written between two quotes, and other values as words."""
+
+
+def show_value(value):
+    """Write a number, a truth or a text."""
+    if isinstance(value, str):
+        return quoted(value)
+    if isinstance(value, bool):
+        return "yes" if value else "no"
+    return str(value)
 
 
 def quoted(text):

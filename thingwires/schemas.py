@@ -27,7 +27,7 @@ class Schema:
         choice_names = _names(given)
         _refuse_rows("kind", kinds, kind_names, choice_names)
         _refuse_rows("choice", given, kind_names, choice_names)
-        if not _is_sort(root, kind_names, choice_names):
+        if not is_sort(root, kind_names, choice_names):
             raise NoSchema(("root",), "sort")
         self.kinds = _by_numbers(kinds)
         self.choices = _by_numbers(given)
@@ -78,14 +78,14 @@ def _fault(word, entry, earlier, kinds, choices):
     if word == "choice" and of is None:
         return None
     # Only a case may have the number 0, and then no content.
-    if number == 0 or not _is_sort(of, kinds, choices):
+    if number == 0 or not is_sort(of, kinds, choices):
         return "sort"
     if len(entry) == 4 and not _is_default(of, entry[3]):
         return "default"
     return None
 
 
-def _is_sort(of, kinds, choices):
+def is_sort(of, kinds, choices):
     """Whether an object is a type of these kinds and choices.
 
     One that is none may be nested without end, so rows and maybes are taken off one by one.

@@ -1,7 +1,7 @@
 """Schemas as texts."""
 
 from thingwires.errors import NoSchema, NoText
-from thingwires.quotes import quoted, unquoted
+from thingwires.quotes import show_value, unquoted
 from thingwires.schemas import Schema
 
 
@@ -68,14 +68,9 @@ def _show_bound(bound):
 
 
 def _show_default(of, default):
-    word = of[0]
-    if word == "number":
-        return str(default)
-    if word == "truth":
-        return "yes" if default else "no"
-    if word == "text":
-        return quoted(default)
-    return "[]" if word == "row" else "-"
+    if of[0] == "row":
+        return "[]"
+    return "-" if of[0] == "maybe" else show_value(default)
 
 
 def _read_rows(rows):

@@ -4,7 +4,7 @@ Things may be hundreds of steps deep and go round in rings, so they are gone thr
 a list of what is ahead, not by functions that call themselves.
 """
 
-from thingwires.basics import nearest
+from thingwires.basics import alike, nearest
 
 
 class Node:
@@ -44,7 +44,7 @@ def told(schema, thing):
 
 def same(schema, one, other):
     """Whether two things of a schema are told alike."""
-    return _alike(told(schema, one), told(schema, other))
+    return alike(told(schema, one), told(schema, other))
 
 
 def copied(schema, thing):
@@ -86,18 +86,24 @@ def field_names(schema, kind):
 
 def nodes_met(schema, thing):
     """List the nodes of a thing in the order in which they are met."""
-    met = {}
+    return list(node_places(schema, thing))
+
+
+def node_places(schema, thing):
+    """Count the places of each node of a thing: a dict in the order in which they are met."""
+    places = {}
     ahead = [thing]
     while ahead:
         part = ahead.pop()
-        if isinstance(part, Node):
-            if part not in met:
-                met[part] = True
-                names = field_names(schema, part.kind)
-                ahead.extend([part.fields[name] for name in names[::-1]])
-        else:
+        if not isinstance(part, Node):
             ahead.extend(_parts(part)[::-1])
-    return list(met)
+        elif part in places:
+            places[part] += 1
+        else:
+            places[part] = 1
+            names = field_names(schema, part.kind)
+            ahead.extend([part.fields[name] for name in names[::-1]])
+    return places
 
 
 def _parts(thing):
@@ -144,20 +150,6 @@ def _told_case(word, content):
 
 def _new_case(word, content):
     return Case(word, content)
-
-
-def _alike(one, other):
-    """Whether two told things are alike; a truth is no number, though Python holds them equal."""
-    ahead = [(one, other)]
-    while ahead:
-        left, right = ahead.pop()
-        if isinstance(left, tuple) and isinstance(right, tuple):
-            if len(left) != len(right):
-                return False
-            ahead.extend(list(zip(left, right)))
-        elif isinstance(left, bool) != isinstance(right, bool) or left != right:
-            return False
-    return True
 
 
 def _plain_node(schema, kind, nodes):

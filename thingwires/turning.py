@@ -1,6 +1,7 @@
 """Things of one edition, turned to another."""
 
 from thingwires.basics import keeps_bounds
+from thingwires.building import Builder, path_along
 from thingwires.entries import by_name, by_number, case_read, first_lack
 from thingwires.errors import NoTurn
 from thingwires.pairing import inner_pair, pair_word
@@ -9,63 +10,38 @@ from thingwires.things import Case, Node, field_names
 
 def turned(old, new, thing):
     """Turn a thing of old's root to one of new's root."""
-    return Turner(old, new).run(thing)
+    turner = Turner(old, new)
+    turner.do_next([("turn", (old.root, new.root), thing, None)])
+    return turner.run()
 
 
-class Turner:
-    """Turns a thing, with a list of what is still to do, since things may be hundreds of steps deep.
-
-    What stands in a row, a case or a node is made ahead of it and waits in a list until it is taken.
-    A way is None at the top, else a pair of the way to what stands around and the step from there.
-    """
+class Turner(Builder):
+    """Turns a thing of old to one of new; it keeps the nodes made, by old's node and new's kind."""
 
     def __init__(self, old, new):
+        Builder.__init__(self)
         self.old = old
         self.new = new
         self.nodes = {}
-        self.jobs = []
-        self.made = []
 
-    def run(self, thing):
-        """Turn a thing of the roots' pair."""
-        self.turn_later((self.old.root, self.new.root), thing, None)
-        while self.jobs:
-            job = self.jobs.pop()
-            word = job[0]
-            if word == "turn":
-                self.turn(job[1], job[2], job[3])
-            elif word == "keep":
-                self.made.append(job[1])
-            elif word == "row":
-                self.made.append(tuple(self.taken(job[1])))
-            elif word == "case":
-                self.made.append(Case(job[1], self.made.pop()))
-            else:
-                self.fill(job[1])
-        return self.made.pop()
-
-    def turn_later(self, pair, thing, way):
-        """Put the turning of a thing ahead of all else that is still to do."""
-        self.jobs.append(("turn", pair, thing, way))
-
-    def turn(self, pair, thing, way):
-        """Turn a thing, or begin to, where things stand in it."""
+    def begin(self, job):
+        """Turn a thing of a pair of types, or begin to, where things stand in it."""
+        _, pair, thing, way = job
         word = pair_word(pair)
-        why = _fault(pair, thing)
+        why = value_fault(pair, thing)
         if why is not None:
-            raise NoTurn(_path(way), why)
+            raise NoTurn(path_along(way), why)
         if word == "row":
-            self.jobs.append(("row", len(thing)))
-            for at, part in list(enumerate(thing))[::-1]:
-                self.turn_later(inner_pair(pair), part, (way, at))
+            parts = [("turn", inner_pair(pair), part, (way, at)) for at, part in enumerate(thing)]
+            self.do_next([*parts, ("row", len(parts))])
         elif word == "choice":
             self.turn_case(pair, thing, way)
         elif word == "node":
             self.turn_node(pair, thing, way)
         elif word == "wrap":
-            self.turn_later(inner_pair(pair), thing, way)
+            self.do_next([("turn", inner_pair(pair), thing, way)])
         elif word in ("maybe", "force") and thing is not None:
-            self.turn_later(inner_pair(pair), thing, (way, ("inside",)))
+            self.do_next([("turn", inner_pair(pair), thing, (way, ("inside",)))])
         else:
             self.made.append(thing)
 
@@ -74,15 +50,14 @@ class Turner:
         number, _, inner = by_name(self.old.choices[pair[0][1]], case.word)
         found = case_read(self.new.choices[pair[1][1]], number)
         if found is None:
-            raise NoTurn(_path(way), "case")
+            raise NoTurn(path_along(way), "case")
         _, name, new_inner = found
         if new_inner is None:
             self.made.append(Case(name))
         elif inner is None:
-            raise NoTurn(_path(way), "sort")
+            raise NoTurn(path_along(way), "sort")
         else:
-            self.jobs.append(("case", name))
-            self.turn_later((inner, new_inner), case.content, (way, ("case", name)))
+            self.do_next([("turn", (inner, new_inner), case.content, (way, ("case", name))), ("case", name)])
 
     def turn_node(self, pair, node, way):
         """Turn a node to one of new's kind; one that was begun for it already stands again."""
@@ -94,33 +69,19 @@ class Turner:
         new_fields = self.new.kinds[kind]
         lack = first_lack(fields, new_fields)
         if lack is not None:
-            raise NoTurn(_path((way, lack)), "lacks")
+            raise NoTurn((*path_along(way), lack), "lacks")
         self.nodes[(node, kind)] = Node(kind)
-        self.jobs.append(("fill", self.nodes[(node, kind)]))
-        for field in new_fields[::-1]:
+        parts = []
+        for field in new_fields:
             found = by_number(fields, field[0])
             if found is None:
-                self.jobs.append(("keep", field[3]))
+                parts.append(("keep", field[3]))
             else:
-                self.turn_later((found[2], field[2]), node.fields[found[1]], (way, field[1]))
-
-    def fill(self, node):
-        """Put the things made for its fields to a node."""
-        names = field_names(self.new, node.kind)
-        things = self.taken(len(names))
-        for name, thing in zip(names, things):
-            node.put(name, thing)
-        self.made.append(node)
-
-    def taken(self, many):
-        """Take the last things that were made, in their order."""
-        start = len(self.made) - many
-        things = self.made[start:]
-        del self.made[start:]
-        return things
+                parts.append(("turn", (found[2], field[2]), node.fields[found[1]], (way, field[1])))
+        self.do_next([*parts, ("fill", self.nodes[(node, kind)], field_names(self.new, kind))])
 
 
-def _fault(pair, thing):
+def value_fault(pair, thing):
     """Why a thing is refused for itself, but for what choices and nodes are; None where it isn't."""
     other = pair[1]
     word = pair_word(pair)
@@ -131,12 +92,3 @@ def _fault(pair, thing):
     if word in ("text", "row") and len(thing) > other[1]:
         return "most"
     return "nothing" if word == "force" and thing is None else None
-
-
-def _path(way):
-    """The path of a way."""
-    steps = []
-    while way is not None:
-        way, step = way
-        steps.append(step)
-    return tuple(steps[::-1])
